@@ -1,0 +1,1 @@
+"""Rolluplevels: sums at coarser and finer levels."""

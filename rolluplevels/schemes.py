@@ -1,0 +1,194 @@
+"""Schemes, their rollups and the cells of these.
+
+The functions of the interface check their arguments. The helpers above them take the arguments as
+checked, so that the package does not check the same scheme again for each cell.
+"""
+
+from rolluplevels.errors import CellError, OrderError, RollupError, SchemeError
+from rolluplevels.values import are_integers, are_numbers_below, is_integer
+
+MOST_ATTRIBUTES = 3
+MOST_VALUES = 6
+MOST_STEPS = 3
+MOST_CELLS = 60
+
+
+def is_step(thing, below):
+    """Whether thing is a step from a level with so many groups below it."""
+    if not are_integers(thing, below):
+        return False
+    groups = sorted(set(thing))
+    return groups == list(range(len(groups))) and len(groups) < below
+
+
+def are_steps(thing, many):
+    """Whether thing is the steps of an attribute with so many values."""
+    if not isinstance(thing, tuple) or len(thing) > MOST_STEPS:
+        return False
+    below = many
+    for step in thing:
+        if not is_step(step, below):
+            return False
+        below = max(step) + 1
+    return True
+
+
+def is_attribute(thing):
+    """Whether thing is an attribute."""
+    if not isinstance(thing, tuple) or len(thing) != 2:
+        return False
+    many, steps = thing
+    return is_integer(many) and 1 <= many <= MOST_VALUES and are_steps(steps, many)
+
+
+def multiplied(counts):
+    """The product of the counts."""
+    product = 1
+    for many in counts:
+        product = product * many
+    return product
+
+
+def choices(counts):
+    """The tuples with a number from 0 on below each of the counts, ascending."""
+    rows = [()]
+    for many in counts:
+        rows = [(*row, number) for row in rows for number in range(many)]
+    return rows
+
+
+def level_counts(scheme):
+    """The number of levels of each attribute."""
+    return [len(steps) + 1 for many, steps in scheme]
+
+
+def group_count(attribute, level):
+    """The number of groups of a level."""
+    many, steps = attribute
+    return many if level == 0 else max(steps[level - 1]) + 1
+
+
+def group_counts(scheme, rollup):
+    """The number of groups of the rollup's level, for each attribute."""
+    return [group_count(attribute, level) for attribute, level in zip(scheme, rollup)]
+
+
+def group_above(attribute, level, group, higher):
+    """The group of the higher level in which a group of the level lies."""
+    found = group
+    for step in attribute[1][level:higher]:
+        found = step[found]
+    return found
+
+
+def finest(scheme):
+    """The rollup with the level 0 everywhere."""
+    return (0,) * len(scheme)
+
+
+def has_levels_up_to(one, other):
+    """Whether each level of one is at most that of other."""
+    return all([level <= higher for level, higher in zip(one, other)])
+
+
+def cells_of(scheme, rollup):
+    """As cells, of checked arguments."""
+    return tuple(choices(group_counts(scheme, rollup)))
+
+
+def cell_above(scheme, rollup, cell, other):
+    """As above, of checked arguments."""
+    return tuple([
+        group_above(attribute, level, group, higher)
+        for attribute, level, group, higher in zip(scheme, rollup, cell, other)
+    ])
+
+
+def check_scheme(scheme):
+    """Raise SchemeError unless it is a scheme."""
+    if not is_scheme(scheme):
+        raise SchemeError("this is no scheme")
+
+
+def check_rollup(scheme, rollup):
+    """Raise RollupError unless it is a rollup of the scheme."""
+    if not are_numbers_below(rollup, level_counts(scheme)):
+        raise RollupError("this is no rollup of the scheme")
+
+
+def check_cell(scheme, rollup, cell):
+    """Raise CellError unless it is a cell of the rollup."""
+    if not are_numbers_below(cell, group_counts(scheme, rollup)):
+        raise CellError("this is no cell of the rollup")
+
+
+def check_order(one, other):
+    """Raise OrderError unless one is at least as fine as other."""
+    if not has_levels_up_to(one, other):
+        raise OrderError("the rollup is not at least as fine as the other one")
+
+
+def check_rollup_of(scheme, rollup):
+    """Check a scheme and a rollup of it."""
+    check_scheme(scheme)
+    check_rollup(scheme, rollup)
+
+
+def check_two_rollups_of(scheme, one, other):
+    """Check a scheme and two rollups of it."""
+    check_rollup_of(scheme, one)
+    check_rollup(scheme, other)
+
+
+def is_scheme(thing):
+    """Whether any value is a scheme."""
+    if not isinstance(thing, tuple) or not 1 <= len(thing) <= MOST_ATTRIBUTES:
+        return False
+    if not all([is_attribute(part) for part in thing]):
+        return False
+    return multiplied([many for many, steps in thing]) <= MOST_CELLS
+
+
+def rollups(scheme):
+    """Yield all rollups of the scheme, ascending."""
+    check_scheme(scheme)
+    yield from choices(level_counts(scheme))
+
+
+def cells(scheme, rollup):
+    """The tuple of all cells of the rollup, ascending."""
+    check_rollup_of(scheme, rollup)
+    return cells_of(scheme, rollup)
+
+
+def size(scheme, rollup):
+    """The number of cells of the rollup."""
+    check_rollup_of(scheme, rollup)
+    return multiplied(group_counts(scheme, rollup))
+
+
+def is_fine(scheme, one, other):
+    """Whether one is at least as fine as other."""
+    check_two_rollups_of(scheme, one, other)
+    return has_levels_up_to(one, other)
+
+
+def finer(scheme, one, other):
+    """The coarsest rollup that is at least as fine as both."""
+    check_two_rollups_of(scheme, one, other)
+    return tuple([min(level, further) for level, further in zip(one, other)])
+
+
+def coarser(scheme, one, other):
+    """The finest rollup that both are at least as fine as."""
+    check_two_rollups_of(scheme, one, other)
+    return tuple([max(level, further) for level, further in zip(one, other)])
+
+
+def above(scheme, rollup, cell, other):
+    """The cell of other, a rollup that rollup is at least as fine as, in which the cell lies."""
+    check_rollup_of(scheme, rollup)
+    check_cell(scheme, rollup, cell)
+    check_rollup(scheme, other)
+    check_order(rollup, other)
+    return cell_above(scheme, rollup, cell, other)

@@ -1,0 +1,23 @@
+"""Integers and tuples of integers, told from any other value."""
+
+
+def is_integer(thing):
+    """Whether thing is an integer; for Python a bool is an int, here it is none."""
+    return isinstance(thing, int) and not isinstance(thing, bool)
+
+
+def is_number_below(thing, limit):
+    """Whether thing is one of the integers from 0 on that are below the limit."""
+    return is_integer(thing) and 0 <= thing < limit
+
+
+def are_integers(thing, many):
+    """Whether thing is a tuple of so many integers."""
+    return isinstance(thing, tuple) and len(thing) == many and all([is_integer(part) for part in thing])
+
+
+def are_numbers_below(thing, limits):
+    """Whether thing is a tuple with a number for each of the limits, from 0 on and below it."""
+    if not isinstance(thing, tuple) or len(thing) != len(limits):
+        return False
+    return all([is_number_below(part, limit) for part, limit in zip(thing, limits)])
