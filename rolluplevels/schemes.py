@@ -4,13 +4,14 @@ The functions of the interface check their arguments. The helpers above them tak
 checked, so that the package does not check the same scheme again for each cell.
 """
 
-from rolluplevels.errors import CellError, OrderError, RollupError, SchemeError
+from rolluplevels.errors import CellError, OrderError, RollupError, SchemeError, StoredError
 from rolluplevels.values import are_integers, are_numbers_below, is_integer
 
 MOST_ATTRIBUTES = 3
 MOST_VALUES = 6
 MOST_STEPS = 3
 MOST_CELLS = 60
+MOST_STORED = 8
 
 
 def is_step(thing, below):
@@ -81,6 +82,21 @@ def group_above(attribute, level, group, higher):
     return found
 
 
+def groups_of_values(attribute, level):
+    """The group of the level for each value of the attribute, in order."""
+    return [group_above(attribute, 0, value, level) for value in range(attribute[0])]
+
+
+def least_value(attribute, level, group):
+    """The least value in a group of the level."""
+    return groups_of_values(attribute, level).index(group)
+
+
+def is_last(attribute, level):
+    """Whether the attribute has no level behind this one."""
+    return level == len(attribute[1])
+
+
 def finest(scheme):
     """The rollup with the level 0 everywhere."""
     return (0,) * len(scheme)
@@ -89,6 +105,21 @@ def finest(scheme):
 def has_levels_up_to(one, other):
     """Whether each level of one is at most that of other."""
     return all([level <= higher for level, higher in zip(one, other)])
+
+
+def greater_levels(one, other):
+    """As coarser, of checked arguments."""
+    return tuple([max(level, further) for level, further in zip(one, other)])
+
+
+def rollups_of(scheme):
+    """All rollups of a checked scheme, ascending."""
+    return choices(level_counts(scheme))
+
+
+def size_of(scheme, rollup):
+    """As size, of checked arguments."""
+    return multiplied(group_counts(scheme, rollup))
 
 
 def cells_of(scheme, rollup):
@@ -104,6 +135,18 @@ def cell_above(scheme, rollup, cell, other):
     ])
 
 
+def is_rollup(scheme, thing):
+    """Whether any value is a rollup of the checked scheme."""
+    return are_numbers_below(thing, level_counts(scheme))
+
+
+def are_rollups(scheme, thing):
+    """Whether any value is a tuple of rollups of the checked scheme, not more than may be stored."""
+    if not isinstance(thing, tuple) or len(thing) > MOST_STORED:
+        return False
+    return all([is_rollup(scheme, part) for part in thing])
+
+
 def check_scheme(scheme):
     """Raise SchemeError unless it is a scheme."""
     if not is_scheme(scheme):
@@ -112,8 +155,14 @@ def check_scheme(scheme):
 
 def check_rollup(scheme, rollup):
     """Raise RollupError unless it is a rollup of the scheme."""
-    if not are_numbers_below(rollup, level_counts(scheme)):
+    if not is_rollup(scheme, rollup):
         raise RollupError("this is no rollup of the scheme")
+
+
+def check_stored(scheme, stored):
+    """Raise StoredError unless it is a tuple of rollups, not more than may be stored."""
+    if not are_rollups(scheme, stored):
+        raise StoredError("this is no tuple of up to eight rollups of the scheme")
 
 
 def check_cell(scheme, rollup, cell):
@@ -152,7 +201,7 @@ def is_scheme(thing):
 def rollups(scheme):
     """Yield all rollups of the scheme, ascending."""
     check_scheme(scheme)
-    yield from choices(level_counts(scheme))
+    yield from rollups_of(scheme)
 
 
 def cells(scheme, rollup):
@@ -164,7 +213,7 @@ def cells(scheme, rollup):
 def size(scheme, rollup):
     """The number of cells of the rollup."""
     check_rollup_of(scheme, rollup)
-    return multiplied(group_counts(scheme, rollup))
+    return size_of(scheme, rollup)
 
 
 def is_fine(scheme, one, other):
@@ -182,7 +231,7 @@ def finer(scheme, one, other):
 def coarser(scheme, one, other):
     """The finest rollup that both are at least as fine as."""
     check_two_rollups_of(scheme, one, other)
-    return tuple([max(level, further) for level, further in zip(one, other)])
+    return greater_levels(one, other)
 
 
 def above(scheme, rollup, cell, other):

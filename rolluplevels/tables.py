@@ -2,13 +2,18 @@
 
 from rolluplevels.errors import SumsError, TableError
 from rolluplevels.schemes import cell_above, cells_of, check_order, check_rollup, check_rollup_of, check_scheme
-from rolluplevels.schemes import finest, group_counts, multiplied
+from rolluplevels.schemes import finest, size_of
 from rolluplevels.values import are_integers
 
 
 def are_amounts(scheme, rollup, thing):
     """Whether any value is a tuple with an integer for each cell of the rollup."""
-    return are_integers(thing, multiplied(group_counts(scheme, rollup)))
+    return are_integers(thing, size_of(scheme, rollup))
+
+
+def is_table_of(scheme, thing):
+    """As is_table, of a checked scheme."""
+    return are_amounts(scheme, finest(scheme), thing)
 
 
 def added_up(scheme, rollup, amounts, other):
@@ -20,9 +25,14 @@ def added_up(scheme, rollup, amounts, other):
     ])
 
 
+def sums_at(scheme, table, rollup):
+    """As sums, of checked arguments."""
+    return added_up(scheme, finest(scheme), table, rollup)
+
+
 def check_table(scheme, table):
     """Raise TableError unless it is a table of the scheme."""
-    if not are_amounts(scheme, finest(scheme), table):
+    if not is_table_of(scheme, table):
         raise TableError("this is no table of the scheme")
 
 
@@ -35,7 +45,7 @@ def check_amounts(scheme, rollup, amounts):
 def is_table(scheme, thing):
     """Whether any value is a table of the scheme."""
     check_scheme(scheme)
-    return are_amounts(scheme, finest(scheme), thing)
+    return is_table_of(scheme, thing)
 
 
 def sums(scheme, table, rollup):
@@ -43,7 +53,7 @@ def sums(scheme, table, rollup):
     check_scheme(scheme)
     check_table(scheme, table)
     check_rollup(scheme, rollup)
-    return added_up(scheme, finest(scheme), table, rollup)
+    return sums_at(scheme, table, rollup)
 
 
 def rolled(scheme, rollup, amounts, other):

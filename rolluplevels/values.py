@@ -1,4 +1,4 @@
-"""Integers and tuples of integers, told from any other value."""
+"""Integers, tuples of integers and tuples that a word begins, told from any other value."""
 
 
 def is_integer(thing):
@@ -21,3 +21,10 @@ def are_numbers_below(thing, limits):
     if not isinstance(thing, tuple) or len(thing) != len(limits):
         return False
     return all([is_number_below(part, limit) for part, limit in zip(thing, limits)])
+
+
+def is_told(thing, word, many):
+    """Whether thing is a tuple of so many parts, at least one, with the word as the first of them."""
+    if not isinstance(thing, tuple) or len(thing) != many:
+        return False
+    return isinstance(thing[0], str) and thing[0] == word

@@ -1,6 +1,7 @@
 """Sample values for the tests, and plain reckonings to compare the program with."""
 
 import itertools
+import random
 
 from rolluplevels import errors
 
@@ -15,8 +16,15 @@ MIXED = ((1, ()), (4, ((2, 0, 1, 0), (0, 1, 1), (0, 0))))
 TRIPLE = ((2, ((0, 0),)), (3, ()), (4, ((1, 1, 0, 2), (0, 1, 0))))
 SIXTY = ((5, ((0, 0, 1, 1, 2), (0, 1, 1))), (6, ((0, 1, 2, 0, 1, 2), (0, 0, 0))), (2, ()))
 STEPS_THREE = ((5, ((3, 2, 1, 0, 3), (0, 1, 2, 0), (1, 0, 0))), (3, ((0, 0, 1), (0, 0))))
+# The value 0 stays alone up to the last level, the value 3 for one step, the value 4 for one step.
+KEPT = ((5, ((0, 1, 1, 2, 3), (0, 1, 2, 2), (0, 1, 1))), (2, ((0, 0),)))
 
-SCHEMES = (DOC_SCHEME, SINGLE, FLAT, DEEP, CROSSED, MIXED, TRIPLE, SIXTY, STEPS_THREE)
+SCHEMES = (DOC_SCHEME, SINGLE, FLAT, DEEP, CROSSED, MIXED, TRIPLE, SIXTY, STEPS_THREE, KEPT)
+
+# As many rollups as a scheme can have: 48. It is no part of SCHEMES, for which all pairs are tried.
+MANY_ROLLUPS = (
+    (4, ((0, 1, 2, 0), (1, 0, 1), (0, 0))), (4, ((2, 1, 0, 0), (0, 0, 1), (0, 0))), (3, ((0, 0, 1), (0, 0))),
+)
 
 HUGE = 7 ** 6000
 
@@ -41,6 +49,15 @@ def other_kinds():
         errors.SchemeError("no scheme"), errors.Unknown((0,), (1,)), errors.LimitError(9, 8),
         (errors.LevelsError("x"),), (errors.LevelsError("x"), errors.LevelsError("y")),
         nested(20), nested(19), (0,) * 8000, [0] * 8000, (None,) * 12,
+    ]
+
+
+def wrong_stored():
+    """Values that are no tuples of up to eight rollups of the document's scheme."""
+    return [thing for thing in other_kinds() if thing != ((0, 0),)] + [
+        (0, 0), ((0, 0), (3, 0)), ((0, 2),), ((0, 0),) * 9, ((0, 0), (0, 0, 0)), ((0, 0), (1,)), ((0, 0), (1, True)),
+        ((False, 0),), [(0, 0)], [], ([0, 0],), ((0, 0), None), (((0, 0),),), ("00",), {(0, 0): 0}, {0: (0, 0)},
+        ((0, 0),) * 8 + (None,), ((-1, 0),), ((0, HUGE),),
     ]
 
 
@@ -80,6 +97,66 @@ def plain_sums(scheme, table, rollup):
 
 def plain_fine(one, other):
     return not [at for at in range(len(one)) if one[at] > other[at]]
+
+
+def plain_groups(scheme, rollup, cell):
+    """For each attribute, the set of the values in the cell's group."""
+    return [
+        {value for value, at in enumerate(level_of_values(attribute, level)) if at == group}
+        for attribute, level, group in zip(scheme, rollup, cell)
+    ]
+
+
+def plain_coarser(one, other):
+    return tuple(max(levels) for levels in zip(one, other))
+
+
+def plain_rolled(scheme, rollup, amounts, other):
+    """Each cell's amount is added to the cell of other in which any values of the cell lie."""
+    totals = {cell: 0 for cell in plain_cells(scheme, other)}
+    for cell, amount in zip(plain_cells(scheme, rollup), amounts):
+        values = [min(group) for group in plain_groups(scheme, rollup, cell)]
+        totals[values_cell(scheme, other, values)] += amount
+    return tuple(totals[cell] for cell in sorted(totals))
+
+
+def plain_is_integer(thing):
+    return type(thing) is int
+
+
+def plain_is_table(scheme, thing):
+    return type(thing) is tuple and len(thing) == table_length(scheme) and all(map(plain_is_integer, thing))
+
+
+def several(things, most, seed):
+    """Tuples of up to most of the things: all of up to two, and some longer ones, also with equal ones."""
+    chance = random.Random(seed)
+    found = [()] + [(one,) for one in things] + list(itertools.product(things, repeat=2))
+    for many in range(3, most + 1):
+        found += [tuple(chance.choices(things, k=many)) for turn in range(4)]
+    return found
+
+
+def broken(thing):
+    """A right value, without empty tuples, with one part of another kind, left out, added or misspelt."""
+    yield None
+    yield (thing,)
+    if isinstance(thing, tuple):
+        yield list(thing)
+        yield dict(enumerate(thing))
+        yield thing + (None,)
+        yield thing + (0,)
+        yield (0,) + thing
+        yield thing + thing[-1:]
+        yield thing[:-1]
+        yield thing[1:]
+        for at, part in enumerate(thing):
+            for other in broken(part):
+                yield thing[:at] + (other,) + thing[at + 1:]
+    elif isinstance(thing, str):
+        yield from ("", thing + " ", thing.upper(), thing[:-1], list(thing), 0, True)
+    else:
+        yield from (bool(thing), not thing, str(thing), [thing], {thing: thing})
 
 
 def table_length(scheme):

@@ -20,6 +20,23 @@ INTERFACE = {
         "sums": ["scheme", "table", "rollup"],
         "rolled": ["scheme", "rollup", "amounts", "other"],
     },
+    "answers": {
+        "answer": ["scheme", "stored", "wanted"],
+        "shows_answer": ["scheme", "stored", "wanted", "thing"],
+        "own_cell": ["scheme", "rollup", "cell"],
+        "answer_cell": ["scheme", "stored", "wanted", "cell"],
+        "shows_answer_cell": ["scheme", "stored", "wanted", "cell", "thing"],
+    },
+    "plans": {
+        "needed": ["scheme", "wanted"],
+        "cost": ["scheme", "stored", "wanted"],
+        "best": ["scheme", "stored", "wanted", "many"],
+    },
+    "reports": {
+        "clash": ["scheme", "report"],
+        "fill": ["scheme", "report"],
+        "shows_fill": ["scheme", "report", "thing"],
+    },
 }
 
 
