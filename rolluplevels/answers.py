@@ -2,18 +2,21 @@
 
 from rolluplevels.schemes import cells_of, check_cell, check_rollup, check_rollup_of, check_scheme, check_stored
 from rolluplevels.schemes import finest, groups_of_values, has_levels_up_to, is_last, least_value
-from rolluplevels.tables import is_table_of, sums_at
-from rolluplevels.values import is_integer, is_told
+from rolluplevels.tables import is_table_of, sum_in_cell, sums_at
+from rolluplevels.values import is_number_below, is_told
 
 
-def fine_places(stored, wanted):
-    """The positions of the stored rollups that are at least as fine as the wanted one."""
-    return [place for place, rollup in enumerate(stored) if has_levels_up_to(rollup, wanted)]
+def first_fine(stored, wanted):
+    """The first position of a stored rollup that is at least as fine as the wanted one; None if there is none."""
+    for place, rollup in enumerate(stored):
+        if has_levels_up_to(rollup, wanted):
+            return place
+    return None
 
 
 def is_fine_place(stored, wanted, thing):
     """Whether any value is the position of a stored rollup that is at least as fine as the wanted one."""
-    return is_integer(thing) and thing in fine_places(stored, wanted)
+    return is_number_below(thing, len(stored)) and has_levels_up_to(stored[thing], wanted)
 
 
 def level_values(attribute, level):
@@ -48,11 +51,23 @@ def amount_of(taken, cell, odd):
 
 
 def two_tables(scheme, taken):
-    """The answer with two tables, made of the one or two values that are taken for each attribute."""
+    """Two tables, made of the one or two values that are taken for each attribute."""
     places = cells_of(scheme, finest(scheme))
     one = tuple([amount_of(taken, cell, 0) for cell in places])
     other = tuple([amount_of(taken, cell, 1) for cell in places])
-    return ("tables", one, other)
+    return (one, other)
+
+
+def tables_for_rollup(scheme, wanted):
+    """Two tables with the same sums at all rollups that are not as fine as the wanted one, but not at this."""
+    return two_tables(scheme, [level_values(attribute, level) for attribute, level in zip(scheme, wanted)])
+
+
+def tables_for_cell(scheme, levels, groups):
+    """The same, for the sum at one cell: of the rollup and the cell that kept_cell returns."""
+    return two_tables(scheme, [
+        group_values(attribute, level, group) for attribute, level, group in zip(scheme, levels, groups)
+    ])
 
 
 def are_alike(scheme, stored, thing):
@@ -83,11 +98,6 @@ def kept_cell(scheme, rollup, cell):
     return (tuple([level for level, group in kept]), tuple([group for level, group in kept]))
 
 
-def sum_at_cell(scheme, table, rollup, cell):
-    """The sum of the table at one cell of the rollup."""
-    return sums_at(scheme, table, rollup)[cells_of(scheme, rollup).index(cell)]
-
-
 def check_stored_and_wanted(scheme, stored, wanted):
     """Check a scheme, several stored rollups of it and a wanted one."""
     check_scheme(scheme)
@@ -98,10 +108,11 @@ def check_stored_and_wanted(scheme, stored, wanted):
 def answer(scheme, stored, wanted):
     """A stored rollup that is as fine as the wanted one, or two tables that only the wanted sums tell apart."""
     check_stored_and_wanted(scheme, stored, wanted)
-    places = fine_places(stored, wanted)
-    if places:
-        return ("from", places[0])
-    return two_tables(scheme, [level_values(attribute, level) for attribute, level in zip(scheme, wanted)])
+    place = first_fine(stored, wanted)
+    if place is not None:
+        return ("from", place)
+    one, other = tables_for_rollup(scheme, wanted)
+    return ("tables", one, other)
 
 
 def shows_answer(scheme, stored, wanted, thing):
@@ -126,12 +137,11 @@ def answer_cell(scheme, stored, wanted, cell):
     check_stored_and_wanted(scheme, stored, wanted)
     check_cell(scheme, wanted, cell)
     levels, groups = kept_cell(scheme, wanted, cell)
-    places = fine_places(stored, levels)
-    if places:
-        return ("from", places[0])
-    return two_tables(scheme, [
-        group_values(attribute, level, group) for attribute, level, group in zip(scheme, levels, groups)
-    ])
+    place = first_fine(stored, levels)
+    if place is not None:
+        return ("from", place)
+    one, other = tables_for_cell(scheme, levels, groups)
+    return ("tables", one, other)
 
 
 def shows_answer_cell(scheme, stored, wanted, cell, thing):
@@ -143,4 +153,5 @@ def shows_answer_cell(scheme, stored, wanted, cell, thing):
         return is_fine_place(stored, levels, thing[1])
     if not are_alike(scheme, stored, thing):
         return False
-    return sum_at_cell(scheme, thing[1], wanted, cell) != sum_at_cell(scheme, thing[2], wanted, cell)
+    least = finest(scheme)
+    return sum_in_cell(scheme, least, thing[1], wanted, cell) != sum_in_cell(scheme, least, thing[2], wanted, cell)

@@ -1,8 +1,8 @@
 """Reported sums: whether they agree, and a table that has them."""
 
 from rolluplevels.errors import ReportError
-from rolluplevels.schemes import cells_of, check_scheme, finest, greater_levels, is_rollup, least_value, size_of
-from rolluplevels.tables import added_up, are_amounts, is_table_of, sums_at
+from rolluplevels.schemes import cells_of, check_scheme, finest, greater_levels, is_rollup, least_value
+from rolluplevels.tables import added_up, are_amounts, is_table_of, no_amounts, sums_at
 from rolluplevels.values import are_integers, is_number_below, is_told
 
 MOST_PIECES = 6
@@ -72,7 +72,7 @@ def with_sums(scheme, table, rollup, amounts):
 
 def table_of(scheme, report):
     """A table with all reported sums, of pieces that agree."""
-    table = (0,) * size_of(scheme, finest(scheme))
+    table = no_amounts(scheme, finest(scheme))
     for rollup, amounts in report:
         table = with_sums(scheme, table, rollup, amounts)
     return table

@@ -135,6 +135,14 @@ def cell_above(scheme, rollup, cell, other):
     ])
 
 
+def place_of(scheme, rollup, cell):
+    """The position of a cell among all cells of the rollup."""
+    place = 0
+    for many, group in zip(group_counts(scheme, rollup), cell):
+        place = place * many + group
+    return place
+
+
 def is_rollup(scheme, thing):
     """Whether any value is a rollup of the checked scheme."""
     return are_numbers_below(thing, level_counts(scheme))
@@ -145,6 +153,11 @@ def are_rollups(scheme, thing):
     if not isinstance(thing, tuple) or len(thing) > MOST_STORED:
         return False
     return all([is_rollup(scheme, part) for part in thing])
+
+
+def is_cell(scheme, rollup, thing):
+    """Whether any value is a cell of the rollup."""
+    return are_numbers_below(thing, group_counts(scheme, rollup))
 
 
 def check_scheme(scheme):
@@ -167,7 +180,7 @@ def check_stored(scheme, stored):
 
 def check_cell(scheme, rollup, cell):
     """Raise CellError unless it is a cell of the rollup."""
-    if not are_numbers_below(cell, group_counts(scheme, rollup)):
+    if not is_cell(scheme, rollup, cell):
         raise CellError("this is no cell of the rollup")
 
 

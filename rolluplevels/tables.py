@@ -1,9 +1,11 @@
 """Tables of a scheme, and their sums at its rollups."""
 
-from rolluplevels.errors import SumsError, TableError
-from rolluplevels.schemes import cell_above, cells_of, check_order, check_rollup, check_rollup_of, check_scheme
-from rolluplevels.schemes import finest, size_of
-from rolluplevels.values import are_integers
+from rolluplevels.errors import AmountError, SumsError, TableError
+from rolluplevels.schemes import cell_above, cells_of, check_cell, check_order, check_rollup, check_rollup_of
+from rolluplevels.schemes import check_scheme, finest, place_of, size_of
+from rolluplevels.values import are_integers, is_number_from
+
+MOST_PUT = 1000000
 
 
 def are_amounts(scheme, rollup, thing):
@@ -28,6 +30,29 @@ def added_up(scheme, rollup, amounts, other):
 def sums_at(scheme, table, rollup):
     """As sums, of checked arguments."""
     return added_up(scheme, finest(scheme), table, rollup)
+
+
+def no_amounts(scheme, rollup):
+    """The amount 0 for each cell of the rollup."""
+    return (0,) * size_of(scheme, rollup)
+
+
+def with_more(scheme, rollup, amounts, cell, amount):
+    """The amounts at the rollup, with so much more at one of its cells."""
+    place = place_of(scheme, rollup, cell)
+    return (*amounts[:place], amounts[place] + amount, *amounts[place + 1:])
+
+
+def sum_in_cell(scheme, rollup, amounts, other, cell):
+    """The sum at one cell of other, a rollup that rollup is at least as fine as."""
+    return added_up(scheme, rollup, amounts, other)[place_of(scheme, other, cell)]
+
+
+def check_put(scheme, cell, amount):
+    """Check a cell of the finest rollup, and an amount that is to be put there."""
+    check_cell(scheme, finest(scheme), cell)
+    if not is_number_from(amount, -MOST_PUT, MOST_PUT):
+        raise AmountError("only up to a million can be put in or taken out at once")
 
 
 def check_table(scheme, table):

@@ -1,4 +1,7 @@
-"""Integers, tuples of integers and tuples that a word begins, told from any other value."""
+"""Integers, tuples of integers and tuples that a word begins, told from any other value; numbers written out."""
+
+PART_DIGITS = 60
+PART = 10 ** 60
 
 
 def is_integer(thing):
@@ -9,6 +12,11 @@ def is_integer(thing):
 def is_number_below(thing, limit):
     """Whether thing is one of the integers from 0 on that are below the limit."""
     return is_integer(thing) and 0 <= thing < limit
+
+
+def is_number_from(thing, least, most):
+    """Whether thing is an integer within the limits."""
+    return is_integer(thing) and least <= thing <= most
 
 
 def are_integers(thing, many):
@@ -28,3 +36,17 @@ def is_told(thing, word, many):
     if not isinstance(thing, tuple) or len(thing) != many:
         return False
     return isinstance(thing[0], str) and thing[0] == word
+
+
+def written(number):
+    """The digits of an integer of any size, with a sign where it is below 0."""
+    if -PART < number < PART:
+        return str(number)
+    # Python refuses to write out integers of some thousand digits at once: so they are written part by part.
+    parts = []
+    rest = abs(number)
+    while rest > 0:
+        rest, part = divmod(rest, PART)
+        parts.append(str(part).zfill(PART_DIGITS))
+    digits = "".join(parts[::-1]).lstrip("0")
+    return digits if number > 0 else f"-{digits}"

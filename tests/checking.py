@@ -35,6 +35,8 @@ def parts_of(thing):
         return (dict, [(parts_of(key), parts_of(thing[key])) for key in thing])
     if isinstance(thing, BaseException):
         return (type(thing), thing.args, dict(vars(thing)))
+    if type(thing).__module__.startswith("rolluplevels."):
+        return (type(thing), parts_of(vars(thing)))
     return (type(thing), thing)
 
 

@@ -4,6 +4,8 @@ import itertools
 import random
 
 from rolluplevels import errors
+from rolluplevels.cubes import Cube
+from rolluplevels.stores import Frugal, Lean, LeanFrugal, Store
 
 DOC_SCHEME = ((4, ((0, 0, 1, 1), (0, 0))), (3, ((0, 1, 1),)))
 DOC_TABLE = (1, 0, 2, 0, 3, 0, 1, 1, 1, 0, 0, 5)
@@ -37,9 +39,22 @@ def nested(depth):
     return thing
 
 
+def package_objects():
+    """Objects of the package, some of them with changes and some without."""
+    cube, store = Cube(DOC_SCHEME, DOC_TABLE), Store(DOC_SCHEME, (1, 1), (0, 0))
+    cube.put((0, 0), 1)
+    store.put((0, 0), 1)
+    return [
+        Cube(SINGLE), cube, cube.trying(), store, store.trying(), Lean(SINGLE, (0,)), Frugal(DOC_SCHEME, (1, 1)),
+        LeanFrugal(DOC_SCHEME, (2, 1), most=2),
+    ]
+
+
 def other_kinds():
     """Values of every kind that callers may pass: none is a scheme, a rollup, a cell or a table."""
-    return [
+    return package_objects() + [
+        tuple(package_objects()), [Cube(SINGLE)], (Cube(SINGLE),), (Store(SINGLE, (0,)),), (0, Cube(SINGLE)),
+        {"cube": Cube(SINGLE)}, {Store(SINGLE, (0,)): 0}, (Cube(DOC_SCHEME),) * 12,
         0, 1, -1, 9_999_999_999_999, HUGE, True, False, None,
         "", "4 : 0 0 1 1 : 0 0\n", "(1, 1)", "x" * 2000,
         [], [1], [[4, [[0, 0, 1, 1]]]], list(DOC_SCHEME), [0, 0], [0, 0, 0], list(DOC_TABLE),

@@ -37,6 +37,39 @@ INTERFACE = {
         "fill": ["scheme", "report"],
         "shows_fill": ["scheme", "report", "thing"],
     },
+    "texts": {
+        "scheme_text": ["scheme"],
+        "read_scheme": ["text"],
+        "report_text": ["scheme", "report"],
+        "read_report": ["scheme", "text"],
+    },
+}
+
+# The bases of each class, how it is called, its properties, its methods with their arguments, and its signs.
+CLASSES = {
+    "cubes": {
+        "Cube": (
+            [], "(scheme, table=None)", ["scheme", "table", "total", "changes"],
+            {
+                "assign_table": "(self, table)", "put": "(self, cell, amount)", "__call__": "(self, cell, amount)",
+                "single": "(scheme, cell, amount)", "summed": "(cubes)", "undo": "(self)", "trying": "(self)",
+            },
+            ["__getitem__", "__add__", "__sub__", "__mul__", "__contains__", "__len__", "__eq__", "__repr__"],
+        ),
+    },
+    "stores": {
+        "Store": (
+            [], "(scheme, *stored)", ["scheme", "stored", "report", "changes"],
+            {
+                "put": "(self, cell, amount)", "__call__": "(self, rollup)", "keep": "(self, rollup)",
+                "drop": "(self, place)", "undo": "(self)", "trying": "(self)",
+            },
+            ["__getitem__", "__len__", "__contains__", "__repr__"],
+        ),
+        "Lean": (["Store"], "(scheme, *stored)", [], {"keep": "(self, rollup)"}, []),
+        "Frugal": (["Store"], "(scheme, *stored, most=60)", ["most"], {"keep": "(self, rollup)"}, []),
+        "LeanFrugal": (["Lean", "Frugal"], "(scheme, *stored, most=60)", [], {}, []),
+    },
 }
 
 
@@ -54,6 +87,35 @@ class InterfaceTest(unittest.TestCase):
                     for parameter in parameters:
                         self.assertIs(parameter.default, inspect.Parameter.empty)
                         self.assertIs(parameter.kind, inspect.Parameter.POSITIONAL_OR_KEYWORD)
+
+    def each_class(self):
+        for file, classes in CLASSES.items():
+            module = importlib.import_module(f"rolluplevels.{file}")
+            for name in classes:
+                with self.subTest(name):
+                    yield module, getattr(module, name), *classes[name]
+
+    def test_classes(self):
+        for module, kind, bases, called, properties, methods, signs in self.each_class():
+            self.assertEqual(kind.__module__, module.__name__)
+            self.assertEqual([base.__name__ for base in kind.__bases__], bases or ["object"])
+            self.assertEqual(str(inspect.signature(kind)), called)
+
+    def test_what_stands_in_the_class_itself(self):
+        for module, kind, bases, called, properties, methods, signs in self.each_class():
+            for name in properties:
+                self.assertIsInstance(vars(kind)[name], property)
+            for name in signs:
+                self.assertTrue(callable(vars(kind)[name]))
+            for name, arguments in methods.items():
+                self.assertIn(name, vars(kind))
+                self.assertEqual(str(inspect.signature(getattr(kind, name))), arguments)
+
+    def test_kinds_of_methods(self):
+        cube = vars(importlib.import_module("rolluplevels.cubes").Cube)
+        self.assertIsInstance(cube["single"], classmethod)
+        self.assertIsInstance(cube["summed"], staticmethod)
+        self.assertIsNotNone(cube["table"].fset)
 
 
 if __name__ == "__main__":

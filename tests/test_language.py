@@ -23,6 +23,12 @@ BARRED_NAMES = set("register mro elements open input law version_info with_trace
 # LANGUAGE.md lets generator expressions stand in some places, but fewer once a class has operators.
 BARRED_NODES = (ast.Import, ast.Global, ast.Div, ast.GeneratorExp, ast.AsyncFunctionDef, ast.Await)
 
+ARITHMETIC = ("__add__", "__sub__", "__mul__")
+SIGNS = {"__contains__": ["self", "x"], "__getitem__": ["self", "at"], **{name: ["self", "other"] for name in ARITHMETIC}}
+# Besides operators and properties, these change nothing.
+TELLING = ("__eq__", "__repr__", "__len__")
+ALLOWED_METHODS = set(SIGNS) | set(TELLING) | {"__init__", "__enter__", "__exit__", "__call__", "__iter__"}
+
 
 def names_bound(tree):
     """The names that a file binds by functions, classes, parameters and assignments."""
@@ -46,6 +52,28 @@ def defined(tree):
         if isinstance(node, ast.Assign):
             found.extend(target.id for target in node.targets)
     return found
+
+
+def functions_of(tree):
+    return [node for node in ast.walk(tree) if isinstance(node, ast.FunctionDef)]
+
+
+def methods_of(tree):
+    """The methods of all classes of a file, with their class."""
+    for node in tree.body:
+        if isinstance(node, ast.ClassDef):
+            yield from ((node, part) for part in node.body if isinstance(part, ast.FunctionDef))
+
+
+def is_property(function):
+    return [ast.unparse(decorator) for decorator in function.decorator_list] == ["property"]
+
+
+def called_by(function):
+    """The names of the functions and methods that a function calls."""
+    for node in ast.walk(function):
+        if isinstance(node, ast.Call):
+            yield node.func.id if isinstance(node.func, ast.Name) else node.func.attr
 
 
 class LanguageTest(unittest.TestCase):
@@ -126,6 +154,89 @@ class LanguageTest(unittest.TestCase):
             free = [file for file in needs if not [need for need in needs[file] if need in needs]]
             self.assertTrue(free, f"in a circle: {sorted(needs)}")
             needs = {file: needs[file] for file in needs if file not in free}
+
+    def test_is_stands_with_constants_only(self):
+        for path, text, tree in self.each_file():
+            for node in ast.walk(tree):
+                if isinstance(node, ast.Compare):
+                    for sign, right in zip(node.ops, node.comparators):
+                        if isinstance(sign, (ast.Is, ast.IsNot)):
+                            self.assertIn(ast.unparse(right), ("None", "True", "False"))
+
+    def test_no_try(self):
+        for path, text, tree in self.each_file():
+            for node in ast.walk(tree):
+                self.assertNotIsInstance(node, ast.Try)
+
+    def test_double_underscore_methods(self):
+        for path, text, tree in self.each_file():
+            for owner, method in methods_of(tree):
+                if method.name.startswith("__"):
+                    self.assertIn(method.name, ALLOWED_METHODS)
+                if method.name in SIGNS:
+                    self.assertEqual([part.arg for part in method.args.args], SIGNS[method.name])
+                if method.name == "__len__":
+                    self.assertRegex(ast.unparse(method.body[-1]), r"^return len\(")
+                if method.name == "__repr__":
+                    self.assertRegex(ast.unparse(method.body[-1]), r"^return f[\"']")
+
+    def test_what_has_items_is_not_iterated_over(self):
+        for path, text, tree in self.each_file():
+            for node in tree.body:
+                if isinstance(node, ast.ClassDef):
+                    methods = {part.name: part for part in node.body if isinstance(part, ast.FunctionDef)}
+                    if "__getitem__" in methods:
+                        self.assertRegex(ast.unparse(methods["__iter__"].body[0]), r"^raise TypeError\(")
+
+    def test_the_end_of_a_block_is_plain(self):
+        for path, text, tree in self.each_file():
+            for owner, method in methods_of(tree):
+                if method.name == "__exit__":
+                    allowed = (ast.Assign, ast.Attribute, ast.Name, ast.Load, ast.Store, ast.If, ast.Compare, ast.Is,
+                               ast.IsNot, ast.Constant, ast.Return)
+                    for row in method.body:
+                        for node in ast.walk(row):
+                            self.assertIsInstance(node, allowed)
+
+    def test_operators_and_properties_change_nothing(self):
+        bodies, open_names = {}, []
+        for path, text, tree in self.each_file():
+            for function in functions_of(tree):
+                bodies.setdefault(function.name, []).append(function)
+            for owner, method in methods_of(tree):
+                if method.name in SIGNS or method.name in TELLING or is_property(method):
+                    open_names.append(method.name)
+                # A new object is filled, which changes nothing that was there; what this calls must keep to it.
+                if method.name == "__init__":
+                    open_names.extend(called_by(method))
+        seen = set()
+        while open_names:
+            name = open_names.pop()
+            if name in seen or name not in bodies or name == "__init__":
+                continue
+            seen.add(name)
+            for function in bodies[name]:
+                # The setter has the name of its property.
+                if not [mark for mark in function.decorator_list if ast.unparse(mark).endswith(".setter")]:
+                    self.assert_changes_nothing(function)
+                    open_names.extend(called_by(function))
+        self.assertLessEqual({"added_up", "is_scheme", "is_table_of", "tables_for_cell"}, seen)
+
+    def assert_changes_nothing(self, function):
+        for node in ast.walk(function):
+            self.assertNotIsInstance(node, (ast.AugAssign, ast.Delete), function.name)
+            if isinstance(node, (ast.Attribute, ast.Subscript)):
+                self.assertIsInstance(node.ctx, ast.Load, function.name)
+
+    def test_no_name_is_a_method_and_an_attribute(self):
+        methods, attributes = set(), set()
+        for path, text, tree in self.each_file():
+            methods.update(method.name for owner, method in methods_of(tree))
+            for node in ast.walk(tree):
+                if isinstance(node, ast.Attribute) and isinstance(node.ctx, ast.Store):
+                    attributes.add(node.attr)
+        self.assertTrue(attributes)
+        self.assertEqual(methods & attributes, set())
 
 
 if __name__ == "__main__":
