@@ -1,7 +1,7 @@
 """What the sums at stored rollups determine, and two tables that show what they do not."""
 
-from rolluplevels.schemes import cells_of, check_cell, check_rollup, check_rollup_of, check_scheme, check_stored
-from rolluplevels.schemes import finest, groups_of_values, has_levels_up_to, is_last, least_value
+from rolluplevels.schemes import check_cell, check_rollup, check_rollup_of, check_scheme, check_stored
+from rolluplevels.schemes import finest, groups_above, has_levels_up_to, is_last
 from rolluplevels.tables import is_table_of, sum_in_cell, sums_at
 from rolluplevels.values import is_number_below, is_told
 
@@ -23,38 +23,39 @@ def level_values(attribute, level):
     """The first two values that the next level puts together and this one does not; 0 at the last level."""
     if is_last(attribute, level):
         return (0,)
-    here = groups_of_values(attribute, level)
-    there = groups_of_values(attribute, level + 1)
+    here = groups_above(attribute, 0, level)
+    step = attribute[1][level]
     pairs = [
-        (a, b) for b in range(len(here)) for a in range(b)
-        if here[a] != here[b] and there[a] == there[b]
+        (a, b) for a in range(len(here)) for b in range(a + 1, len(here))
+        if here[a] != here[b] and step[here[a]] == step[here[b]]
     ]
-    return min(pairs)
+    return pairs[0]
 
 
 def group_values(attribute, level, group):
     """The least value in the group, and the least one that only the next level puts together with it."""
-    first = least_value(attribute, level, group)
+    here = groups_above(attribute, 0, level)
+    first = here.index(group)
     if is_last(attribute, level):
         return (first,)
-    here = groups_of_values(attribute, level)
-    there = groups_of_values(attribute, level + 1)
-    return (first, min([b for b in range(len(here)) if here[b] != group and there[b] == there[first]]))
+    step = attribute[1][level]
+    return (first, min([b for b, found in enumerate(here) if found != group and step[found] == step[group]]))
 
 
-def amount_of(taken, cell, odd):
-    """1 if the cell has only taken values, and an odd or an even number of second ones; otherwise 0."""
-    if not all([value in values for value, values in zip(cell, taken)]):
-        return 0
-    seconds = sum([values.index(value) for value, values in zip(cell, taken)])
-    return 1 if seconds % 2 == odd else 0
+def marks_of(attribute, taken):
+    """For each value 1 if it is the first one that is taken, -1 if it is the second one, otherwise 0."""
+    return [0 if value not in taken else 1 if value == taken[0] else -1 for value in range(attribute[0])]
 
 
 def two_tables(scheme, taken):
     """Two tables, made of the one or two values that are taken for each attribute."""
-    places = cells_of(scheme, finest(scheme))
-    one = tuple([amount_of(taken, cell, 0) for cell in places])
-    other = tuple([amount_of(taken, cell, 1) for cell in places])
+    # The product of a cell's marks is 1 with an even number of second values, and -1 with an odd one.
+    products = [1]
+    for attribute, values in zip(scheme, taken):
+        marks = marks_of(attribute, values)
+        products = [product * mark for product in products for mark in marks]
+    one = tuple([1 if product == 1 else 0 for product in products])
+    other = tuple([1 if product == -1 else 0 for product in products])
     return (one, other)
 
 
@@ -70,14 +71,22 @@ def tables_for_cell(scheme, levels, groups):
     ])
 
 
-def are_alike(scheme, stored, thing):
-    """Whether any value is ("tables", one, other) with two tables that have the same stored sums."""
+def differences(scheme, thing):
+    """The amounts of one less those of other, for ("tables", one, other) with two tables; otherwise None."""
     if not is_told(thing, "tables", 3):
-        return False
+        return None
     word, one, other = thing
     if not is_table_of(scheme, one) or not is_table_of(scheme, other):
-        return False
-    return all([sums_at(scheme, one, rollup) == sums_at(scheme, other, rollup) for rollup in stored])
+        return None
+    return tuple([amount - further for amount, further in zip(one, other)])
+
+
+def are_alike(scheme, stored, less):
+    """Whether two tables with these differences have the same sums at all stored rollups."""
+    for rollup in stored:
+        if any(sums_at(scheme, less, rollup)):
+            return False
+    return True
 
 
 def group_kept(attribute, level, group):
@@ -120,9 +129,10 @@ def shows_answer(scheme, stored, wanted, thing):
     check_stored_and_wanted(scheme, stored, wanted)
     if is_told(thing, "from", 2):
         return is_fine_place(stored, wanted, thing[1])
-    if not are_alike(scheme, stored, thing):
+    less = differences(scheme, thing)
+    if less is None or not are_alike(scheme, stored, less):
         return False
-    return sums_at(scheme, thing[1], wanted) != sums_at(scheme, thing[2], wanted)
+    return any(sums_at(scheme, less, wanted))
 
 
 def own_cell(scheme, rollup, cell):
@@ -151,7 +161,7 @@ def shows_answer_cell(scheme, stored, wanted, cell, thing):
     if is_told(thing, "from", 2):
         levels, groups = kept_cell(scheme, wanted, cell)
         return is_fine_place(stored, levels, thing[1])
-    if not are_alike(scheme, stored, thing):
+    less = differences(scheme, thing)
+    if less is None or not are_alike(scheme, stored, less):
         return False
-    least = finest(scheme)
-    return sum_in_cell(scheme, least, thing[1], wanted, cell) != sum_in_cell(scheme, least, thing[2], wanted, cell)
+    return sum_in_cell(scheme, finest(scheme), less, wanted, cell) != 0

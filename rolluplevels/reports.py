@@ -1,9 +1,9 @@
 """Reported sums: whether they agree, and a table that has them."""
 
 from rolluplevels.errors import ReportError
-from rolluplevels.schemes import cells_of, check_scheme, finest, greater_levels, is_rollup, least_value
-from rolluplevels.tables import added_up, are_amounts, is_table_of, no_amounts, sums_at
-from rolluplevels.values import are_integers, is_number_below, is_told
+from rolluplevels.schemes import cells_of, check_scheme, finest, greater_levels, groups_above, is_cell, is_rollup
+from rolluplevels.tables import added_up, are_amounts, is_table_of, no_amounts, sum_in_cell, sums_at
+from rolluplevels.values import is_number_below, is_told
 
 MOST_PIECES = 6
 
@@ -30,29 +30,37 @@ def check_report_of(scheme, report):
         raise ReportError("this is no report of the scheme")
 
 
-def differing_cells(scheme, one, other):
-    """The cells, at the finest rollup that both pieces are as fine as, at which their sums differ."""
-    common = greater_levels(one[0], other[0])
-    ones = added_up(scheme, one[0], one[1], common)
-    others = added_up(scheme, other[0], other[1], common)
-    return [cell for cell, amount, further in zip(cells_of(scheme, common), ones, others) if amount != further]
+def piece_sums(scheme, report, place, rollup, known):
+    """The sums of a piece at a rollup that its own is at least as fine as; known are those that were asked before."""
+    key = (place, rollup)
+    if key not in known:
+        own, amounts = report[place]
+        known[key] = added_up(scheme, own, amounts, rollup)
+    return known[key]
 
 
 def first_clash(scheme, report):
     """As clash, of checked arguments."""
+    known = {}
     for second in range(len(report)):
         for first in range(second):
-            differing = differing_cells(scheme, report[first], report[second])
-            if differing:
-                return (first, second, differing[0])
+            common = greater_levels(report[first][0], report[second][0])
+            ones = piece_sums(scheme, report, first, common, known)
+            others = piece_sums(scheme, report, second, common, known)
+            if ones != others:
+                places = [at for at, amount in enumerate(ones) if amount != others[at]]
+                return (first, second, cells_of(scheme, common)[places[0]])
     return None
 
 
-def least_cell(scheme, rollup, cell):
-    """The cell of the finest rollup with the least values of the cell's groups."""
-    return tuple([
-        least_value(attribute, level, group) for attribute, level, group in zip(scheme, rollup, cell)
-    ])
+def least_places(scheme, rollup):
+    """For each cell of the rollup, the position in a table of the cell with the least values of its groups."""
+    places = [0]
+    for attribute, level in zip(scheme, rollup):
+        groups = groups_above(attribute, 0, level)
+        leasts = [groups.index(group) for group in range(max(groups) + 1)]
+        places = [place * attribute[0] + least for place in places for least in leasts]
+    return places
 
 
 def with_sums(scheme, table, rollup, amounts):
@@ -61,13 +69,12 @@ def with_sums(scheme, table, rollup, amounts):
     # change as those at the finest rollup that both are as fine as do, each of them at one cell within it.
     # These do not change at all where an earlier piece agrees with this one.
     present = sums_at(scheme, table, rollup)
-    changes = {
-        least_cell(scheme, rollup, cell): amount - before
-        for cell, amount, before in zip(cells_of(scheme, rollup), amounts, present)
-    }
-    return tuple([
-        amount + changes.get(cell, 0) for cell, amount in zip(cells_of(scheme, finest(scheme)), table)
-    ])
+    if present == amounts:
+        return table
+    changed = list(table)
+    for place, amount, before in zip(least_places(scheme, rollup), amounts, present):
+        changed[place] = changed[place] + amount - before
+    return tuple(changed)
 
 
 def table_of(scheme, report):
@@ -85,6 +92,14 @@ def has_all_sums(scheme, report, thing):
     return all([sums_at(scheme, thing, rollup) == amounts for rollup, amounts in report])
 
 
+def is_difference(scheme, one, other, thing):
+    """Whether any value is a cell, of the finest rollup that both pieces are as fine as, at which they differ."""
+    common = greater_levels(one[0], other[0])
+    if not is_cell(scheme, common, thing):
+        return False
+    return sum_in_cell(scheme, one[0], one[1], common, thing) != sum_in_cell(scheme, other[0], other[1], common, thing)
+
+
 def is_clash(scheme, report, thing):
     """Whether any value is ("clash", first, second, cell) with two pieces whose sums differ at the cell."""
     if not is_told(thing, "clash", 4):
@@ -92,7 +107,7 @@ def is_clash(scheme, report, thing):
     word, first, second, cell = thing
     if not is_number_below(first, len(report)) or not is_number_below(second, len(report)):
         return False
-    return are_integers(cell, len(scheme)) and cell in differing_cells(scheme, report[first], report[second])
+    return is_difference(scheme, report[first], report[second], cell)
 
 
 def clash(scheme, report):

@@ -82,14 +82,20 @@ def group_above(attribute, level, group, higher):
     return found
 
 
-def groups_of_values(attribute, level):
-    """The group of the level for each value of the attribute, in order."""
-    return [group_above(attribute, 0, value, level) for value in range(attribute[0])]
+def groups_above(attribute, level, higher):
+    """The group of the higher level for each group of the level, in order."""
+    if level == higher:
+        return list(range(group_count(attribute, level)))
+    first, *others = attribute[1][level:higher]
+    groups = list(first)
+    for step in others:
+        groups = [step[group] for group in groups]
+    return groups
 
 
-def least_value(attribute, level, group):
-    """The least value in a group of the level."""
-    return groups_of_values(attribute, level).index(group)
+def groups_in(attribute, level, higher, group):
+    """The groups of the level that lie in a group of the higher one, ascending."""
+    return [at for at, found in enumerate(groups_above(attribute, level, higher)) if found == group]
 
 
 def is_last(attribute, level):
@@ -109,7 +115,7 @@ def has_levels_up_to(one, other):
 
 def greater_levels(one, other):
     """As coarser, of checked arguments."""
-    return tuple([max(level, further) for level, further in zip(one, other)])
+    return tuple([level if level > further else further for level, further in zip(one, other)])
 
 
 def rollups_of(scheme):

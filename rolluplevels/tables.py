@@ -1,8 +1,8 @@
 """Tables of a scheme, and their sums at its rollups."""
 
 from rolluplevels.errors import AmountError, SumsError, TableError
-from rolluplevels.schemes import cell_above, cells_of, check_cell, check_order, check_rollup, check_rollup_of
-from rolluplevels.schemes import check_scheme, finest, place_of, size_of
+from rolluplevels.schemes import check_cell, check_order, check_rollup, check_rollup_of, check_scheme, finest
+from rolluplevels.schemes import group_count, groups_above, groups_in, place_of, size_of
 from rolluplevels.values import are_integers, is_number_from
 
 MOST_PUT = 1000000
@@ -18,13 +18,31 @@ def is_table_of(scheme, thing):
     return are_amounts(scheme, finest(scheme), thing)
 
 
+def turned(amounts, attribute, level, higher):
+    """The amounts, added up to the higher level of the last attribute, in the order in which it is the first."""
+    if level == higher:
+        many = group_count(attribute, level)
+        if many == 1 or many == len(amounts):
+            return amounts
+        return [amount for at in range(many) for amount in amounts[at::many]]
+    groups = groups_above(attribute, level, higher)
+    many = len(groups)
+    joined = [
+        [amounts[at::many] for at, found in enumerate(groups) if found == group] for group in range(max(groups) + 1)
+    ]
+    return [sum(parts) for columns in joined for parts in zip(*columns)]
+
+
 def added_up(scheme, rollup, amounts, other):
     """As rolled, of checked arguments."""
-    places = [cell_above(scheme, rollup, cell, other) for cell in cells_of(scheme, rollup)]
-    return tuple([
-        sum([amount for place, amount in zip(places, amounts) if place == cell])
-        for cell in cells_of(scheme, other)
-    ])
+    if rollup == other:
+        return amounts
+    # Each turn adds up all amounts over one attribute at once, and leaves the one before it as the last. When
+    # each attribute has had its turn, they stand in their own order again.
+    found = amounts
+    for at in range(len(scheme) - 1, -1, -1):
+        found = turned(found, scheme[at], rollup[at], other[at])
+    return tuple(found)
 
 
 def sums_at(scheme, table, rollup):
@@ -45,7 +63,12 @@ def with_more(scheme, rollup, amounts, cell, amount):
 
 def sum_in_cell(scheme, rollup, amounts, other, cell):
     """The sum at one cell of other, a rollup that rollup is at least as fine as."""
-    return added_up(scheme, rollup, amounts, other)[place_of(scheme, other, cell)]
+    places = [0]
+    for attribute, level, higher, group in zip(scheme, rollup, other, cell):
+        many = group_count(attribute, level)
+        inside = groups_in(attribute, level, higher, group)
+        places = [place * many + at for place in places for at in inside]
+    return sum([amounts[place] for place in places])
 
 
 def check_put(scheme, cell, amount):
