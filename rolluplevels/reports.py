@@ -20,7 +20,10 @@ def is_report(scheme, thing):
     """Whether any value is a report of the checked scheme."""
     if not isinstance(thing, tuple) or len(thing) > MOST_PIECES:
         return False
-    return all([is_piece(scheme, part) for part in thing])
+    for part in thing:
+        if not is_piece(scheme, part):
+            return False
+    return True
 
 
 def check_report_of(scheme, report):
@@ -89,7 +92,10 @@ def has_all_sums(scheme, report, thing):
     """Whether any value is a table with all reported sums."""
     if not is_table_of(scheme, thing):
         return False
-    return all([sums_at(scheme, thing, rollup) == amounts for rollup, amounts in report])
+    for rollup, amounts in report:
+        if sums_at(scheme, thing, rollup) != amounts:
+            return False
+    return True
 
 
 def is_difference(scheme, one, other, thing):

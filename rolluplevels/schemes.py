@@ -5,7 +5,7 @@ checked, so that the package does not check the same scheme again for each cell.
 """
 
 from rolluplevels.errors import CellError, OrderError, RollupError, SchemeError, StoredError
-from rolluplevels.values import are_integers, are_numbers_below, is_integer
+from rolluplevels.values import are_numbers_below, is_number_from
 
 MOST_ATTRIBUTES = 3
 MOST_VALUES = 6
@@ -14,24 +14,18 @@ MOST_CELLS = 60
 MOST_STORED = 8
 
 
-def is_step(thing, below):
-    """Whether thing is a step from a level with so many groups below it."""
-    if not are_integers(thing, below):
-        return False
-    groups = sorted(set(thing))
-    return groups == list(range(len(groups))) and len(groups) < below
-
-
-def are_steps(thing, many):
-    """Whether thing is the steps of an attribute with so many values."""
-    if not isinstance(thing, tuple) or len(thing) > MOST_STEPS:
-        return False
-    below = many
-    for step in thing:
-        if not is_step(step, below):
-            return False
-        below = max(step) + 1
-    return True
+def groups_of_step(thing, below):
+    """The number of groups to which a step from so many groups leads; 0 if thing is no such step."""
+    if not isinstance(thing, tuple) or len(thing) != below:
+        return 0
+    seen = 0
+    for part in thing:
+        if not isinstance(part, int) or part is True or part is False or not 0 <= part < below:
+            return 0
+        # A bit for each group that occurs: so it takes no sorting to see whether one is left out.
+        seen = seen | 1 << part
+    many = seen.bit_length()
+    return many if many < below and seen + 1 == 1 << many else 0
 
 
 def is_attribute(thing):
@@ -39,15 +33,14 @@ def is_attribute(thing):
     if not isinstance(thing, tuple) or len(thing) != 2:
         return False
     many, steps = thing
-    return is_integer(many) and 1 <= many <= MOST_VALUES and are_steps(steps, many)
-
-
-def multiplied(counts):
-    """The product of the counts."""
-    product = 1
-    for many in counts:
-        product = product * many
-    return product
+    if not is_number_from(many, 1, MOST_VALUES) or not isinstance(steps, tuple) or len(steps) > MOST_STEPS:
+        return False
+    below = many
+    for step in steps:
+        below = groups_of_step(step, below)
+        if below == 0:
+            return False
+    return True
 
 
 def choices(counts):
@@ -58,9 +51,12 @@ def choices(counts):
     return rows
 
 
-def level_counts(scheme):
-    """The number of levels of each attribute."""
-    return [len(steps) + 1 for many, steps in scheme]
+def count_of_cells(scheme):
+    """The number of cells of the finest rollup."""
+    product = 1
+    for many, steps in scheme:
+        product = product * many
+    return product
 
 
 def group_count(attribute, level):
@@ -110,7 +106,10 @@ def finest(scheme):
 
 def has_levels_up_to(one, other):
     """Whether each level of one is at most that of other."""
-    return all([level <= higher for level, higher in zip(one, other)])
+    for level, higher in zip(one, other):
+        if level > higher:
+            return False
+    return True
 
 
 def greater_levels(one, other):
@@ -120,12 +119,15 @@ def greater_levels(one, other):
 
 def rollups_of(scheme):
     """All rollups of a checked scheme, ascending."""
-    return choices(level_counts(scheme))
+    return choices([len(steps) + 1 for many, steps in scheme])
 
 
 def size_of(scheme, rollup):
     """As size, of checked arguments."""
-    return multiplied(group_counts(scheme, rollup))
+    product = 1
+    for attribute, level in zip(scheme, rollup):
+        product = product * group_count(attribute, level)
+    return product
 
 
 def cells_of(scheme, rollup):
@@ -151,14 +153,22 @@ def place_of(scheme, rollup, cell):
 
 def is_rollup(scheme, thing):
     """Whether any value is a rollup of the checked scheme."""
-    return are_numbers_below(thing, level_counts(scheme))
+    if not isinstance(thing, tuple) or len(thing) != len(scheme):
+        return False
+    for part, (many, steps) in zip(thing, scheme):
+        if not isinstance(part, int) or part is True or part is False or not 0 <= part <= len(steps):
+            return False
+    return True
 
 
 def are_rollups(scheme, thing):
     """Whether any value is a tuple of rollups of the checked scheme, not more than may be stored."""
     if not isinstance(thing, tuple) or len(thing) > MOST_STORED:
         return False
-    return all([is_rollup(scheme, part) for part in thing])
+    for part in thing:
+        if not is_rollup(scheme, part):
+            return False
+    return True
 
 
 def is_cell(scheme, rollup, thing):
@@ -212,9 +222,10 @@ def is_scheme(thing):
     """Whether any value is a scheme."""
     if not isinstance(thing, tuple) or not 1 <= len(thing) <= MOST_ATTRIBUTES:
         return False
-    if not all([is_attribute(part) for part in thing]):
-        return False
-    return multiplied([many for many, steps in thing]) <= MOST_CELLS
+    for part in thing:
+        if not is_attribute(part):
+            return False
+    return count_of_cells(thing) <= MOST_CELLS
 
 
 def rollups(scheme):

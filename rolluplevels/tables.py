@@ -1,8 +1,8 @@
 """Tables of a scheme, and their sums at its rollups."""
 
 from rolluplevels.errors import AmountError, SumsError, TableError
-from rolluplevels.schemes import check_cell, check_order, check_rollup, check_rollup_of, check_scheme, finest
-from rolluplevels.schemes import group_count, groups_above, groups_in, place_of, size_of
+from rolluplevels.schemes import check_cell, check_order, check_rollup, check_rollup_of, check_scheme, count_of_cells
+from rolluplevels.schemes import finest, group_count, groups_above, groups_in, place_of, size_of
 from rolluplevels.values import are_integers, is_number_from
 
 MOST_PUT = 1000000
@@ -15,7 +15,7 @@ def are_amounts(scheme, rollup, thing):
 
 def is_table_of(scheme, thing):
     """As is_table, of a checked scheme."""
-    return are_amounts(scheme, finest(scheme), thing)
+    return are_integers(thing, count_of_cells(scheme))
 
 
 def turned(amounts, attribute, level, higher):
