@@ -76,6 +76,14 @@ class Cube:
             amount - further for amount, further in zip(self.states[-1], other.states[-1])
         ]))
 
+    # Python asks these where what stands on the left does not know how to add or subtract: so that is no cube.
+
+    def __radd__(self, other):
+        raise CubeError("what the cube is added to is no cube")
+
+    def __rsub__(self, other):
+        raise CubeError("what the cube is subtracted from is no cube")
+
     def __mul__(self, other):
         if not is_number_from(other, -MOST_TIMES, MOST_TIMES):
             raise NumberError("a cube is multiplied by up to a thousand")

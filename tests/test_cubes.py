@@ -281,6 +281,14 @@ class OperatorsTest(CubeCase):
                 self.assert_refused(CubeError, cube, operator.add, cube, thing)
                 self.assert_refused(CubeError, cube, operator.sub, cube, thing)
 
+    def test_no_cube_on_the_left(self):
+        cube = Cube(SINGLE, (3,))
+        cube.put((0,), 1)
+        for thing in other_kinds() + [(3,), SINGLE, [], (), ""]:
+            if type(thing) is not Cube:
+                self.assert_refused(CubeError, cube, operator.add, thing, cube)
+                self.assert_refused(CubeError, cube, operator.sub, thing, cube)
+
     def test_another_scheme(self):
         for one, other in itertools.permutations(SCHEMES, 2):
             cube = Cube(one, (3,) * table_length(one))

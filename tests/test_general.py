@@ -94,6 +94,8 @@ CALLS = [
     (lambda rollup: made_cube()[rollup], (ROLLUP,), (RollupError,)),
     (lambda other: made_cube() + other, (made_cube(),), (CubeError,)),
     (lambda other: made_cube() - other, (made_cube(),), (CubeError,)),
+    (lambda one: one + made_cube(), (made_cube(),), (CubeError,)),
+    (lambda one: one - made_cube(), (made_cube(),), (CubeError,)),
     (lambda number: made_cube() * number, (1,), (NumberError,)),
     (lambda thing: thing in made_cube(), (CELL,), (None,)),
     (Store, (DOC_SCHEME, ROLLUP, FINE), (SchemeError, StoredError, StoredError)),

@@ -23,11 +23,19 @@ BARRED_NAMES = set("register mro elements open input law version_info with_trace
 # LANGUAGE.md lets generator expressions stand in some places, but fewer once a class has operators.
 BARRED_NODES = (ast.Import, ast.Global, ast.Div, ast.GeneratorExp, ast.AsyncFunctionDef, ast.Await)
 
-ARITHMETIC = ("__add__", "__sub__", "__mul__")
+REFLECTED = ("__radd__", "__rsub__")
+ARITHMETIC = ("__add__", "__sub__", "__mul__", *REFLECTED)
 SIGNS = {"__contains__": ["self", "x"], "__getitem__": ["self", "at"], **{name: ["self", "other"] for name in ARITHMETIC}}
 # Besides operators and properties, these change nothing.
 TELLING = ("__eq__", "__repr__", "__len__")
 ALLOWED_METHODS = set(SIGNS) | set(TELLING) | {"__init__", "__enter__", "__exit__", "__call__", "__iter__"}
+
+BUILTIN_METHODS = set(
+    "append clear copy count endswith extend find get index insert isalnum isalpha isdigit islower isspace isupper items"
+    " join keys ljust lower lstrip partition pop remove replace reverse rfind rjust rpartition rsplit rstrip setdefault"
+    " split splitlines startswith strip update upper values zfill bit_length title capitalize swapcase casefold center"
+    " expandtabs removeprefix removesuffix rindex isascii isdecimal isnumeric istitle isidentifier isprintable".split()
+)
 
 
 def names_bound(tree):
@@ -179,6 +187,26 @@ class LanguageTest(unittest.TestCase):
                     self.assertRegex(ast.unparse(method.body[-1]), r"^return len\(")
                 if method.name == "__repr__":
                     self.assertRegex(ast.unparse(method.body[-1]), r"^return f[\"']")
+
+    def test_methods_that_are_called(self):
+        own = {method.name for path, text, tree in self.each_file() for owner, method in methods_of(tree)}
+        for path, text, tree in self.each_file():
+            for node in ast.walk(tree):
+                if isinstance(node, ast.Call) and isinstance(node.func, ast.Attribute):
+                    self.assertIn(node.func.attr, own | BUILTIN_METHODS)
+                    if node.func.attr not in own:
+                        self.assertEqual(node.keywords, [])
+
+    def test_reflected_methods_stand_in_classes_of_no_family(self):
+        bases, reflecting = {}, []
+        for path, text, tree in self.each_file():
+            for node in tree.body:
+                if isinstance(node, ast.ClassDef):
+                    bases[node.name] = [base.id for base in node.bases]
+            reflecting.extend(owner.name for owner, method in methods_of(tree) if method.name in REFLECTED)
+        for name in reflecting:
+            self.assertEqual(bases[name], [])
+            self.assertNotIn(name, [base for found in bases.values() for base in found])
 
     def test_what_has_items_is_not_iterated_over(self):
         for path, text, tree in self.each_file():
